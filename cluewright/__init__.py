@@ -1,0 +1,1 @@
+"""Cluewright: puzzles of squares, solved wholly, made and explained."""

@@ -1,0 +1,125 @@
+"""The interface of what has landed: each name in its own file, with its arguments, each method in its class."""
+
+import importlib
+import inspect
+import unittest
+
+INTERFACE = {
+    "errors": """
+        class GridFault
+        class BadSquare
+        class BadRule
+        class BadStep
+        class BadPaper
+        class BadSize
+        class BadText
+        class BadStore
+        class NoWay
+        class NoSuch
+    """,
+    "squares": """
+        check_size(high, wide)
+        all_squares(high, wide)
+        row_of(y, wide)
+        column_of(x, high)
+        beside(spot, high, wide)
+        around(spot, high, wide)
+        boxes(high, wide, tall, broad)
+        lots_of(rows)
+        check_rows(rows)
+        hangs(spots)
+        parts_of(spots)
+        told(table, high, wide, bare='.')
+        read(rows, bare='.')
+        turned(table, high, wide)
+        mirrored(table, wide)
+    """,
+    "rules": """
+        class Unlike
+        Unlike.__init__(spots)
+        Unlike.may(values)
+        Unlike.shown()
+        class Sum
+        Sum.__init__(spots, whole)
+        Sum.may(values)
+        Sum.shown()
+        class Less
+        Less.__init__(one, other)
+        Less.may(values)
+        Less.shown()
+        class Gap
+        Gap.__init__(one, other, much)
+        Gap.may(values)
+        Gap.shown()
+        class Tops
+        Tops.__init__(spots, count)
+        Tops.may(values)
+        Tops.shown()
+        class Runs
+        Runs.__init__(spots, runs)
+        Runs.may(values)
+        Runs.shown()
+        class Count
+        Count.__init__(spots, value, count)
+        Count.may(values)
+        Count.shown()
+        check_spots(spots)
+        tops(values)
+        runs_of(values)
+        kept(rule, table)
+    """,
+    "boards": """
+        class Board
+        Board.__init__(values, rules)
+        Board.all_spots()
+        Board.given(clues)
+        Board.without(spot, value)
+        Board.may(table)
+        Board.keeps(table)
+        Board.shown()
+        in_order(values)
+        latin(size, more=())
+        boxed(tall, broad, more=())
+        joined(one, other)
+    """,
+}
+
+
+def told_of(function):
+    """Return a function's arguments as the interface writes them, without a method's own object."""
+    rows = []
+    for name, told in inspect.signature(function).parameters.items():
+        if name != "self":
+            rows.append(name if told.default is told.empty else f"{name}={told.default!r}")
+    return "(" + ", ".join(rows) + ")"
+
+
+class TestInterface(unittest.TestCase):
+    def names(self):
+        for file, rows in INTERFACE.items():
+            module = importlib.import_module("cluewright." + file)
+            for row in rows.split("\n"):
+                if row.strip() != "":
+                    yield module, row.strip()
+
+    def test_each_name_stands_in_its_file(self):
+        for module, row in self.names():
+            if row.startswith("class "):
+                found = module.__dict__[row[6:]]
+                self.assertTrue(inspect.isclass(found), row)
+                self.assertEqual(found.__module__, module.__name__, row)
+                self.assertTrue(found.__doc__, row)
+                continue
+            name = row[:row.index("(")]
+            if "." in name:
+                kind, name = name.split(".")
+                found = module.__dict__[kind].__dict__[name]
+            else:
+                found = module.__dict__[name]
+            self.assertTrue(inspect.isfunction(found), row)
+            self.assertEqual(found.__module__, module.__name__, row)
+            self.assertEqual(told_of(found), row[row.index("("):], row)
+
+
+if __name__ == "__main__":
+    unittest.main()
