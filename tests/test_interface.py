@@ -82,6 +82,53 @@ INTERFACE = {
         boxed(tall, broad, more=())
         joined(one, other)
     """,
+    "search": """
+        solutions(board, most=None)
+        lay(board, spots, table, found, most)
+        fits(board, spot, table)
+        first(board)
+        how_many(board, most=None)
+        is_unique(board)
+        sure(board)
+        possible(board)
+        chances(board, spot)
+    """,
+    "steps": """
+        follows(values, rule)
+        row_by_row(values, rule, row, good)
+        next_step(values, rules)
+        steps(board)
+        taken(values, step)
+        check_steps(board, rows)
+        is_done(values)
+        is_closed(values)
+        only_places(values, rule)
+        told_step(step)
+        hardness(board)
+    """,
+    "papers": """
+        paper_for(board)
+        first_open(values)
+        with_value(board, values, spot, value)
+        less(board, values, spot, value)
+        check_paper(board, paper)
+        check_unique(board, paper)
+        check_none(board, paper)
+        size_of(paper)
+        depth_of(paper)
+        solved(board)
+        choice_free(board)
+        narrowed(board, table)
+    """,
+    "makers": """
+        clues_for(board, table, order)
+        others_for(board, clues)
+        check_needed(board, clues, paper, others)
+        made(board, table, order)
+        fewest(board, table)
+        quarrels(board, tables)
+        hits_all(clues, lots)
+    """,
 }
 
 
