@@ -6,11 +6,17 @@ from cluewright.errors import BadSize, NoWay
 
 def solutions(board, most=None):
     """Return all solutions, as tables, by the squares' numbers in order, the first so many where told; BadSize."""
-    if most is not None and most < 0:
-        raise BadSize("there are no fewer solutions than none")
+    check_most(most)
     found = []
     lay(board, board.all_spots(), {}, found, most)
     return tuple(found)
+
+
+def check_most(most):
+    """Return how many solutions are asked for at most, None for all; BadSize."""
+    if most is not None and most < 0:
+        raise BadSize("there are no fewer solutions than none")
+    return most
 
 
 def lay(board, spots, table, found, most):

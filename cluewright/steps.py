@@ -1,5 +1,6 @@
 """Steps: what follows from a board at once, told one by one, each checked by itself."""
 
+from cluewright.cages import Cage, product
 from cluewright.errors import BadStep
 from cluewright.rules import Count, Runs, Sum, Tops, Unlike, runs_of, tops
 
@@ -48,7 +49,20 @@ def what_counts(rule, row):
         return (tops(row), max(row, default=0))
     if isinstance(rule, Runs):
         return (runs_of(row), row[-1:] == (1,))
+    if isinstance(rule, Cage):
+        return what_counts_in_cage(rule.deed, row)
     return row
+
+
+def what_counts_in_cage(deed, row):
+    """Return what alone, of a row of a cage's first numbers, tells in which ways it may go on."""
+    if deed == "+":
+        return sum(row)
+    if deed == "x":
+        return product(row)
+    if deed == "-":
+        return (sum(row), max(row, default=0))
+    return (product(row), max(row, default=0))
 
 
 def next_step(values, rules):

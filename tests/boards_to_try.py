@@ -2,6 +2,7 @@
 
 from brute import all_solutions
 from cluewright.boards import Board, boxed, joined, latin
+from cluewright.cages import Cage, cage_board
 from cluewright.rules import Count, Gap, Less, Runs, Sum, Tops, Unlike
 from cluewright.squares import all_squares, column_of, row_of
 
@@ -78,6 +79,28 @@ def a_ring(numbers):
                                                             Unlike((three, one))])
 
 
+def a_cage(numbers, spots):
+    return Cage(numbers.some(spots, 1 + numbers.below(3)), numbers.below(7) - 1, "+-x/"[numbers.below(4)])
+
+
+def a_cage_board(seed):
+    """Return a board of four to six squares, with up to three cages and up to two other rules."""
+    numbers = Numbers(seed)
+    spots = all_squares(2, 2 + numbers.below(2))
+    values = {spot: numbers.some(range(5), 1 + numbers.below(4)) for spot in spots}
+    cages = [a_cage(numbers, spots) for _ in range(1 + numbers.below(3))]
+    return Board(values, cages + [a_rule(numbers, spots) for _ in range(numbers.below(3))])
+
+
+def cage_boards():
+    """Return boards with cages, thrown and known."""
+    three = cage_board(("aab", "ccb", "dde"), {"a": (2, "-"), "b": (6, "x"), "c": (3, "+"), "d": (3, "/"),
+                                               "e": (2, "+")})
+    two = cage_board(("ab", "ab"), {"a": (2, "/"), "b": (3, "+")})
+    none = cage_board(("ab", "ab"), {"a": (3, "x"), "b": (3, "+")})
+    return [three, two, none] + [a_cage_board(seed) for seed in range(60)]
+
+
 def with_clues(board):
     """Return a board with two numbers of its last solution given, none where it has no solution."""
     found = all_solutions(board)[-1:]
@@ -86,4 +109,5 @@ def with_clues(board):
 
 def boards():
     thrown = [a_board(seed) for seed in range(120)]
-    return known_boards() + thrown + [one for board in thrown[:60] for one in with_clues(board)]
+    clued = [one for board in thrown[:60] for one in with_clues(board)]
+    return known_boards() + thrown + clued + cage_boards()

@@ -1,6 +1,7 @@
 """What the tests check the program against: all tables and all ways, tried plainly, with rules told again here."""
 
 from itertools import product
+from math import prod
 
 
 def runs(values):
@@ -10,6 +11,21 @@ def runs(values):
 
 def tops(values):
     return sum(1 for at in range(len(values)) if max(values[:at], default=-1) < values[at])
+
+
+def makes(values, deed):
+    """Return what numbers make by a deed, None where it can't be done in whole numbers."""
+    rest = list(values)
+    top = max(rest)
+    rest.remove(top)
+    if deed == "+":
+        return top + sum(rest)
+    if deed == "x":
+        return top * prod(rest)
+    if deed == "-":
+        return top - sum(rest)
+    whole = [one for one in range(top + 1) if one * prod(rest) == top and prod(rest) > 0]
+    return whole[0] if whole else None
 
 
 def holds(shown, values):
@@ -29,6 +45,8 @@ def holds(shown, values):
         return runs(values) == shown[2]
     if kind == "count":
         return list(values).count(shown[2]) == shown[3]
+    if kind == "cage":
+        return makes(values, shown[3]) == shown[2]
     raise AssertionError(kind)
 
 

@@ -129,6 +129,61 @@ INTERFACE = {
         quarrels(board, tables)
         hits_all(clues, lots)
     """,
+    "latins": """
+        check_latin(rows)
+        cyclic(size, step=1)
+        all_latins(size)
+        orders_of(size)
+        apart(one, other)
+        renamed(rows, names)
+        moved(rows, downs, rights)
+        flipped(rows)
+        plain(rows)
+        are_square(one, other)
+        choices(rows)
+        mate(rows)
+        cover(lots, taken, size)
+        swaps(rows)
+    """,
+    "cages": """
+        class Cage
+        Cage.__init__(spots, whole, deed)
+        Cage.may(values)
+        Cage.shown()
+        product(values)
+        made_by(values, deed)
+        cages_of(rows, goals)
+        cage_board(rows, goals)
+        goals_of(rows, table, deeds)
+        rows_that_make(many, whole, deed, numbers)
+    """,
+    "pictures": """
+        check_line(runs, size)
+        all_lines(runs, size)
+        sure_line(runs, known)
+        agrees(row, known)
+        runs_both(rows)
+        filled(rows, columns)
+        board_of(rows, columns)
+        pictures(rows, columns, most=None)
+        is_plain(picture)
+        spare(runs, size)
+        how_many_lines(runs, size)
+    """,
+    "mines": """
+        shared(one, other)
+        counts_of(spots, high, wide)
+        check_shown(shown, high, wide)
+        ways(shown, high, wide, many=None)
+        place_on(known, spots, row, place, high, wide, many, found)
+        may_hide(known, row, left, high, wide)
+        sure_squares(shown, high, wide, many=None)
+        hidden_chances(shown, high, wide, many)
+        safest(shown, high, wide, many)
+        opened(hidden, spot, high, wide)
+        fewest_clicks(hidden, high, wide)
+        told_by(hidden, open_spots, high, wide)
+    """,
 }
 
 
