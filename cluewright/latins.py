@@ -64,7 +64,8 @@ def moved(rows, downs, rights):
 
 def flipped(rows):
     """Return a latin with rows and columns exchanged; BadSquare."""
-    return tuple([tuple(column) for column in zip(*check_latin(rows))])
+    old = check_latin(rows)
+    return tuple([tuple(column) for column in zip(*old)])
 
 
 def plain(rows):

@@ -53,7 +53,7 @@ def sure_at(runs, known, place):
 
 def set_at(known, place, value):
     """Return known places with one more, or another."""
-    return (*known[:place], value, *known[place + 1:])
+    return tuple(known[:place]) + (value,) + tuple(known[place + 1:])
 
 
 def has_line(runs, known):

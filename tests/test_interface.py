@@ -184,6 +184,54 @@ INTERFACE = {
         fewest_clicks(hidden, high, wide)
         told_by(hidden, open_spots, high, wide)
     """,
+    "lights": """
+        changed(spot, high, wide)
+        pressed(lit, presses, high, wide)
+        rows_for(high, wide)
+        added(one, other)
+        one_way(lit, high, wide)
+        quiet_lots(high, wide)
+        all_presses(lit, high, wide)
+        fewest_presses(lit, high, wide)
+        why_not(lit, high, wide)
+        check_why_not(lit, lot, high, wide)
+        by_first_row(lit, high, wide, first)
+    """,
+    "loops": """
+        edges_of(high, wide)
+        round_square(spot)
+        check_clues(clues, high, wide)
+        is_loop(edges)
+        loops(clues, high, wide, most=None)
+        lay_edges(known, edges, row, place, most, found)
+        may_go(known, edges, row, place)
+        near_corner(corner)
+        inside(edges, high, wide)
+        clues_of(edges, high, wide)
+        about(spots)
+        check_loop(clues, edges, high, wide)
+    """,
+    "walls": """
+        check_heads(heads, high, wide)
+        lots_from(start, size, free, high, wide)
+        boxes_from(start, size, free)
+        partings(heads, high, wide, box=False, most=None)
+        part_on(known, left, table, free, high, wide, box, most, found)
+        check_parting(heads, table, high, wide, box=False)
+        is_box(spots)
+        letters_of(table, high, wide)
+        edges_between(table)
+        sums_kept(table, numbers)
+    """,
+    "rivers": """
+        check_hills(hills, high, wide)
+        pools(spots, high, wide)
+        rivers(hills, high, wide, most=None)
+        flow_on(known, left, table, high, wide, most, found)
+        water_of(table, high, wide)
+        check_rivers(hills, table, high, wide)
+        sure_water(hills, high, wide)
+    """,
 }
 
 
