@@ -204,6 +204,16 @@ class TestLayEdges(unittest.TestCase):
                     self.assertEqual(found, due)
 
 
+    def test_a_row_that_goes_round_already(self):
+        edges = tried_edges(1, 3)
+        due = [lot for lot in all_lots(edges) if goes_round(lot)]
+        for place in (5, 8, 9, 10):
+            for begun in all_lots(edges[:place]):
+                found = []
+                lay_edges({}, edges, begun, place, None, found)
+                self.assertEqual(found, [lot for lot in due if tuple(e for e in lot if e in edges[:place]) == begun])
+
+
 class TestMayGo(unittest.TestCase):
     def test_corners_and_clues(self):
         edges = tried_edges(1, 2)

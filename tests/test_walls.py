@@ -237,6 +237,7 @@ class TestTold(unittest.TestCase):
                 self.assertIs(is_box(list(lot)[::-1]), full_box(lot))
         self.assertIs(is_box(((4, 4),)), True)
         self.assertIs(is_box(((0, 0), (0, 0))), False)
+        self.assertIs(is_box(()), False)
 
     def test_letters(self):
         table = {(1, 2): ((0, 2), (1, 1), (1, 2)), (0, 0): ((0, 0), (0, 1), (1, 0))}
