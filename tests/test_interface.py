@@ -232,6 +232,56 @@ INTERFACE = {
         check_rivers(hills, table, high, wide)
         sure_water(hills, high, wide)
     """,
+    "paths": """
+        near_of(spot, high, wide, slant)
+        check_marks(marks, high, wide)
+        paths(marks, high, wide, slant=False, most=None)
+        go_on(known, places, row, high, wide, slant, most, found)
+        check_path(marks, row, high, wide, slant=False)
+        check_pairs(pairs, high, wide)
+        links(pairs, high, wide, full=True, most=None)
+        link_on(known, left, table, taken, high, wide, full, most, found)
+        ways_between(start, end, taken, high, wide)
+        check_links(pairs, table, high, wide, full=True)
+        shortest(pairs, high, wide)
+    """,
+    "bridges": """
+        check_islands(islands)
+        pairs_of(islands)
+        cross(one, other)
+        all_bridges(islands, most=None)
+        build(known, pairs, table, place, most, found)
+        may_build(known, pairs, table, place)
+        hang_together(known, table)
+        check_bridges(islands, table)
+        bridge_counts(table)
+        sure_bridges(islands)
+    """,
+    "words": """
+        slots_of(rows)
+        runs_in(spots, rows)
+        check_list(words)
+        fillings(rows, words, most=None, twice=False)
+        fill_on(slots, words, known, row, most, twice, found)
+        filled_rows(rows, row)
+        crossings(rows)
+        numbers_of(rows)
+        hidden_at(rows, word)
+        stands(rows, word, spot, step)
+        ladder(start, end, words)
+        unlike(one, other)
+    """,
+    "stars": """
+        check_many(rows, many)
+        stars(rows, many, most=None)
+        put_on(rows, letters, many, row, y, most, found)
+        row_choices(size, many, y)
+        may_hold(rows, letters, many, here, y)
+        check_stars(rows, many, lot)
+        partners(posts, downs, rights, most=None)
+        join_on(posts, table, downs, rights, most, found)
+        check_partners(posts, downs, rights, table)
+    """,
 }
 
 
