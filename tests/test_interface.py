@@ -282,6 +282,69 @@ INTERFACE = {
         join_on(posts, table, downs, rights, most, found)
         check_partners(posts, downs, rights, table)
     """,
+    "shades": """
+        check_numbers(rows)
+        twice(rows, spot, shaded)
+        clashes(rows)
+        shadings(rows, most=None)
+        shade_on(rows, spots, row, place, most, found)
+        check_shading(rows, lot)
+        sure_shades(rows)
+        fewest_shades(rows)
+        shown_shades(rows, lot)
+    """,
+    "twins": """
+        check_even(size)
+        is_line(row)
+        all_even_lines(size)
+        may_begin(row, size)
+        twins(size, known, most=None)
+        grow(size, known, lines, rows, most, found)
+        check_twins(rows, known)
+        line_steps(row)
+        must(row, place, number)
+        fewest_known(rows)
+    """,
+    "bones": """
+        all_bones(most)
+        check_field(rows, most)
+        bone_at(rows, one, other)
+        layings(rows, most, first=None)
+        lay_on(rows, spots, taken, table, first, found)
+        check_laying(rows, most, table)
+        places_of(rows, most)
+        forced(rows, most)
+        chains(bones, count)
+    """,
+    "slides": """
+        check_board(rows)
+        blocks_of(rows)
+        moved_block(rows, letter, step)
+        next_boards(rows)
+        is_at(rows, letter, spot)
+        all_boards(rows)
+        fewest_moves(rows, letter, spot)
+        after_moves(rows, moves)
+        check_moves(rows, letter, spot, moves, table)
+        left_table(rows, letter, spot)
+    """,
+    "desks": """
+        number(word)
+        square_of(word)
+        told_square(spot)
+        figure_of(text)
+        class Desk
+        Desk.__init__()
+        Desk.say(line)
+        Desk.do(line)
+        Desk.here()
+        Desk.rule_of(words)
+        Desk.size()
+        Desk.let(board, clues, words)
+        Desk.answer(words)
+        lines_of(text)
+        done_again(text)
+    """,
 }
 
 
