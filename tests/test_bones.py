@@ -81,7 +81,8 @@ class TestBones(unittest.TestCase):
         self.assertEqual(check_field(rows, 1), ((0, 0, 1), (0, 1, 1)))
         self.assertEqual(rows, [[0, 0, 1], [0, 1, 1]])
         wrong = [((), 0), (((),), 0), (((0, 0), (0,)), 0), (((0,),), 0), (((0, 0, 0),), 0), (((0, 0), (0, 0)), 1),
-                 (((0, 0, 1), (0, 1)), 1), (((0, 0, 1), (0, 1, 2)), 1), (((0, 0, 1), (0, 1, -1)), 1), (((0, 1),), 0)]
+                 (((0, 0, 1), (0, 1)), 1), (((0, 0, 1), (0, 1, 2)), 1), (((0, 0, 1), (0, 1, -1)), 1), (((0, 1),), 0),
+                 (((0, 0, 1, 1), (0, 1)), 1), (((0, 0), (), (0, 1, 1, 1)), 1)]
         for rows, most in wrong:
             for ask in (check_field, layings, places_of, forced):
                 self.assertRaises(BadSize, ask, rows, most)

@@ -135,6 +135,19 @@ class TestBridges(unittest.TestCase):
         self.assertEqual(all_bridges(islands), ())
         self.assertRaises(BadPaper, check_bridges, islands, table)
 
+    def test_bridges_that_cross_and_hang_together(self):
+        islands = {(0, 0): 2, (0, 1): 2, (1, 0): 2, (1, 2): 1, (2, 1): 1}
+        table = {((0, 0), (0, 1)): 1, ((0, 0), (1, 0)): 1, ((0, 1), (2, 1)): 1, ((1, 0), (1, 2)): 1}
+        self.assertTrue(hang(list(islands), table))
+        self.assertEqual(counts_of(islands, table), islands)
+        self.assertEqual(all_bridges(islands), ())
+        self.assertRaises(BadPaper, check_bridges, islands, table)
+        known, pairs = check_islands(islands), pairs_of(islands)
+        for place in range(len(pairs) + 1):
+            found = []
+            build(known, pairs, {pair: table[pair] for pair in pairs[:place]}, place, None, found)
+            self.assertEqual(found, [])
+
     def test_counts_without_hanging_together(self):
         islands = {(0, 0): 1, (0, 2): 1, (2, 0): 1, (2, 2): 1}
         self.assertEqual(all_bridges(islands), ())
@@ -215,6 +228,9 @@ class TestBridges(unittest.TestCase):
                       {((0, 0), (0, 2)): 2, ((0, 2), (2, 2)): 1, ((0, 0), (2, 0)): 0}):
             self.assertRaises(BadPaper, check_bridges, islands, wrong)
         self.assertRaises(BadPaper, check_bridges, {(0, 0): 1}, {})
+        self.assertRaises(BadPaper, check_bridges, {(0, 0): 3, (0, 2): 3}, {((0, 0), (0, 2)): 3})
+        self.assertRaises(BadPaper, check_bridges, {(0, 0): 1, (2, 2): 1}, {((0, 0), (2, 2)): 1})
+        self.assertRaises(BadPaper, check_bridges, {(0, 0): 1, (0, 1): 2, (0, 2): 1}, {((0, 0), (0, 2)): 1})
 
     def test_bridge_counts(self):
         self.assertEqual(bridge_counts({}), {})

@@ -284,7 +284,7 @@ class TestRefusals(unittest.TestCase):
                          f"rule gap 1 {word} a1", f"rule gap 1 a1 {word}", f"clue {word} 1", f"clear {word}"):
                 self.check(desk, line, "text")
         for line in ("rule tops middle 1 1", "rule tops middle x y", "rule sum 3", "rule less a1", "rule gap 1 a1",
-                     "rule tops left 1", "rule tops left 1 1 1", "rule less a1 a2 a3", "rule more a1 a2"):
+                     "rule tops left 1", "rule tops left 1 1 1", "rule less a1 a2 a3", "rule more a1 a2", "rule more left 1 1"):
             self.check(desk, line, "text")
         for line in ("rule sum 3 a1 a1", "rule less a1 a1", "rule gap 1 b2 b2"):
             self.check(desk, line, "rule")
@@ -351,8 +351,9 @@ class TestRefusals(unittest.TestCase):
         self.assertEqual(desk.rule_of(["gap", "0", "i9", "a1"]).shown(), ("gap", ((8, 8), (0, 0)), 0))
         self.assertEqual(desk.answer(["solve"]), "123/231/312")
         clues = {(0, 0): 1}
-        board = Board({(0, 0): (1, 2)}, ())
+        board = Board({(0, 0): (1, 2), (0, 1): (1,)}, ())
         self.assertEqual(desk.let(board, clues, ["clue", "a1", "1"]), 1)
+        self.assertEqual(desk.size(), 1)
         self.assertEqual((desk.board, desk.clues, desk.many), (board, {(0, 0): 1}, 2))
         self.assertEqual(lines_of(desk.text), ("open 3", "clue a1 1"))
         self.assertEqual(clues, {(0, 0): 1})

@@ -151,6 +151,11 @@ class TestPaths(unittest.TestCase):
                 go_on(marks, places, list(row), 2, 3, False, 1, found)
                 self.assertEqual(found, ["ahead"])
         self.assertEqual((marks, places), ({(0, 0): 1, (1, 2): 4}, {1: (0, 0), 4: (1, 2)}))
+        for row in (((0, 0), (0, 1), (0, 0)), ((0, -1), (0, 0)), ((0, 0), (0, 1), (0, 2)), ((2, 0),),
+                    ((0, 0), (0, 1), (0, 0), (1, 0))):
+            found = []
+            go_on({}, {}, row, 2, 2, False, None, found)
+            self.assertEqual(found, [])
 
     def test_check_path(self):
         for slant in (False, True):
@@ -161,6 +166,7 @@ class TestPaths(unittest.TestCase):
                         self.assertIs(check_path(marks, list(row), 2, 2, slant), True)
                     else:
                         self.assertRaises(BadPaper, check_path, marks, row, 2, 2, slant)
+        self.assertRaises(BadPaper, check_path, {}, ((0, 0), (1, 1), (0, 1), (1, 0)), 2, 2)
         for row in ((), ((0, 0), (0, 1), (1, 1)), ((0, 0), (0, 1), (1, 1), (1, 0), (0, 0)),
                     ((0, 0), (0, 1), (1, 1), (1, 2)), ((0, 0), (0, 0), (0, 1), (1, 1))):
             self.assertRaises(BadPaper, check_path, {}, row, 2, 2)

@@ -211,6 +211,12 @@ class TestMoves(unittest.TestCase):
         self.assertRaises(BadPaper, check_moves, rows, "a", (0, 2), moves, {**table, far: table[far] + 9})
         for wrong in ((), moves[:1], (*moves, ("b", (-1, 0))), (("a", (0, -1)),)):
             self.assertRaises(BadPaper, check_moves, rows, "a", (0, 2), wrong, table)
+        # As many moves as the table tells, but to another place.
+        self.assertRaises(BadPaper, check_moves, rows, "a", (0, 2), (("a", (1, 0)), ("a", (-1, 0))), table)
+        # No move lessens it by more than one, but it tells less than nought.
+        low = {("a..",): 0, (".a.",): 0, ("..a",): -1}
+        self.assertRaises(BadPaper, check_moves, ["a.."], "a", (0, 0), (), low)
+        self.assertEqual(check_moves(["a.."], "a", (0, 0), (), {**low, ("..a",): 0}), 0)
         # One more there and back: the goal is come to, but not by the fewest moves.
         longer = (("a", (1, 0)), ("a", (-1, 0)), *moves)
         self.assertRaises(BadPaper, check_moves, rows, "a", (0, 2), longer, table)

@@ -160,6 +160,8 @@ class TestStars(unittest.TestCase):
         # All counts are kept, but two touch.
         self.assertRaises(BadPaper, check_stars, ("abcd",) * 4, 1, ((0, 0), (1, 1), (2, 2), (3, 3)))
         self.assertEqual(check_stars(["a"], 1, [(0, 0)]), 1)
+        # All counts of the board are kept, but one more stands outside.
+        self.assertRaises(BadPaper, check_stars, FOUR, 1, (*good, (9, 9)))
         # Rows and columns are kept, but not the letters' lots.
         self.assertRaises(BadPaper, check_stars, ("aaab", "aacc", "aaaa", "addd"), 1, good)
 
@@ -253,6 +255,13 @@ class TestPartners(unittest.TestCase):
                 self.assertEqual(found, ["ahead"] + whole[:1])
                 self.assertEqual((begun, left, rest), given)
 
+    def test_join_on_keeps_counts_wholly(self):
+        for posts, downs, rights in (([(0, 0)], [1, 1], [1, 1]), ([(0, 0)], [0, 1], [1, 1]), ([], [1, 0], [0, 1]),
+                                     ([(0, 0), (1, 1)], [1, 0], [0, 1]), ([(0, 0)], [1, 0], [1, 0])):
+            found = []
+            join_on(posts, {}, downs, rights, None, found)
+            self.assertEqual(found, [])
+
     def test_check_partners(self):
         posts, downs, rights = [(1, 0), (1, 2)], [1, 0, 1], [1, 0, 1]
         good = {(1, 0): (0, 0), (1, 2): (2, 2)}
@@ -262,6 +271,11 @@ class TestPartners(unittest.TestCase):
                       {(1, 0): (0, 0), (1, 2): (1, 2)}, {(1, 0): (0, 0), (1, 2): (2, 1)},
                       {(1, 0): (1, 1), (1, 2): (1, 1)}, {(1, 0): (0, 1), (1, 2): (0, 2)}):
             self.assertRaises(BadPaper, check_partners, posts, downs, rights, wrong)
+        # The counts are kept, but by another post, by partners of each other's, and by one of both.
+        for wrong in ({(1, 0): (0, 0), (2, 1): (2, 2)}, {(1, 0): (2, 2), (1, 2): (0, 0)}):
+            self.assertRaises(BadPaper, check_partners, posts, downs, rights, wrong)
+        self.assertRaises(BadPaper, check_partners, [(0, 1), (2, 1)], [0, 2, 0], [0, 2, 0],
+                          {(0, 1): (1, 1), (2, 1): (1, 1)})
         self.assertRaises(BadPaper, check_partners, posts, [1, 1, 0], rights, good)
         self.assertRaises(BadPaper, check_partners, posts, downs, [0, 1, 1], good)
         self.assertRaises(BadPaper, check_partners, [(0, 0), (0, 1)], [0, 2], [1, 1], {(0, 0): (1, 0), (0, 1): (1, 1)})

@@ -149,6 +149,17 @@ class TestTwins(unittest.TestCase):
                 grow(4, known, list(lines), [list(row) for row in rows], 2, found)
                 self.assertEqual(found, ["ahead"] + whole[:1])
         self.assertEqual(known, {(0, 0): 1, (3, 1): 0})
+        for many in (1, 2):
+            for rows in product(product((0, 1), repeat=4), repeat=many):
+                found = []
+                grow(4, {}, lines, rows, None, found)
+                self.assertEqual(found, [board for board in FOUR if board[:many] == rows])
+        found = []
+        grow(4, {}, lines, (*FOUR[0], FOUR[0][0]), None, found)
+        lines = all_even_lines(6)
+        for line in lines[::4]:
+            grow(6, {}, lines, (line, line), None, found)
+        self.assertEqual(found, [])
 
     def test_check_twins(self):
         for rows in FOUR:
@@ -163,6 +174,13 @@ class TestTwins(unittest.TestCase):
             else:
                 self.assertRaises(BadPaper, check_twins, rows, {})
         for rows in (((0, 1), (1,)), ((0, 1, 0), (1, 0, 1)), ((0, 1), ()), ((0, 1), (1, 2))):
+            self.assertRaises(BadPaper, check_twins, rows, {})
+        # Each row and column is a line, but two rows are alike, or two columns.
+        alike = ((0, 0, 1, 0, 1, 1), (0, 0, 1, 1, 0, 1), (1, 1, 0, 0, 1, 0), (0, 1, 0, 1, 0, 1), (1, 0, 1, 1, 0, 0),
+                 (1, 1, 0, 0, 1, 0))
+        for rows in (alike, tuple(zip(*alike))):
+            self.assertTrue(all(even(line) for line in [*rows, *zip(*rows)]))
+            self.assertEqual({len(set(rows)), len(set(zip(*rows)))}, {5, 6})
             self.assertRaises(BadPaper, check_twins, rows, {})
         for known in ({(2, 0): 0}, {(0, 2): 0}, {(-1, 0): 1}):
             self.assertRaises(BadPaper, check_twins, ((0, 1), (1, 0)), known)

@@ -178,7 +178,7 @@ class TestFillings(unittest.TestCase):
             due = tried_fillings(board, words, twice)
             self.assertTrue(due)
             begun = {row[:many] for row in due for many in range(5)}
-            for row in sorted(begun | {("aba", "bb"), ("ab",), ("bab", "aa", "ba"), ("aba", "ab", "ab")}):
+            for row in sorted(begun | {("aba", "bb"), ("ab",), ("bab", "aa", "ba"), ("aab", "aa", "aa")}):
                 for most in (None, 0, 1, 2):
                     found = ["ahead"]
                     fill_on(slots, words, known, row, most, twice, found)
@@ -201,6 +201,7 @@ class TestFillings(unittest.TestCase):
                     ("", "")):
             self.assertRaises(BadPaper, filled_rows, ["a.", ".#"], row)
         self.assertRaises(BadPaper, filled_rows, ["."], ("a",))
+        self.assertRaises(BadPaper, filled_rows, ["..", ".#"], ("ab", "bc"))
 
 
 class TestHidden(unittest.TestCase):
