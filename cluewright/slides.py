@@ -36,7 +36,8 @@ def stepped_block(board, letter, lot, step):
     signs = {spot: BARE for spot in lot}
     for spot in there:
         signs[spot] = letter
-    return tuple(["".join([signs.get((y, x), sign) for x, sign in enumerate(row)]) for y, row in enumerate(board)])
+    return tuple(["".join([signs.get((down, right), sign) for right, sign in enumerate(row)])
+                  for down, row in enumerate(board)])
 
 
 def next_boards(rows):

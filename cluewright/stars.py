@@ -164,8 +164,8 @@ def check_partners(posts, downs, rights, table):
         near = any([touch(spot, other) for other in spots])
         if near or spot not in beside(post, high, wide) or spot in posts:
             raise BadPaper("a partner stands beside its post, on no post, and not around another")
-    if [len([1 for spot in spots if spot[0] == y]) for y in range(high)] != list(downs):
+    if [len([1 for one in spots if one[0] == y]) for y in range(high)] != list(downs):
         raise BadPaper("a row has another count of partners")
-    if [len([1 for spot in spots if spot[1] == x]) for x in range(wide)] != list(rights):
+    if [len([1 for one in spots if one[1] == x]) for x in range(wide)] != list(rights):
         raise BadPaper("a column has another count of partners")
     return len(table)

@@ -2,6 +2,7 @@
 
 from cluewright.errors import BadPaper, BadSize
 from cluewright.search import is_enough
+from cluewright.squares import column_of, row_of
 
 
 def check_even(size):
@@ -61,8 +62,8 @@ def grow(size, known, lines, rows, most, found):
             # A row that doesn't have what is known there is no board's.
             if table.setdefault((y, x), value) != value:
                 return
-    downs = [[line for line in lines if has_known(table, line, [(y, x) for x in range(size)])] for y in range(size)]
-    rights = [[line for line in lines if has_known(table, line, [(y, x) for y in range(size)])] for x in range(size)]
+    downs = [[line for line in lines if has_known(table, line, row_of(place, size))] for place in range(size)]
+    rights = [[line for line in lines if has_known(table, line, column_of(place, size))] for place in range(size)]
     if all([y < size and row in downs[y] for y, row in enumerate(begun)]) and len(set(begun)) == len(begun):
         rest = [[line for line in row if line not in begun] for row in downs[len(begun):]]
         grow_left(rest, rights, begun, most, found)

@@ -113,7 +113,8 @@ def filled_rows(rows, row):
             if table.get((y, x), sign) != sign or rows[y][x] not in (BARE, sign):
                 raise BadPaper("two words, or a word and a given sign, don't agree")
             table[(y, x)] = sign
-    return tuple(["".join([table.get((y, x), sign) for x, sign in enumerate(line)]) for y, line in enumerate(rows)])
+    return tuple(["".join([table.get((down, right), old) for right, old in enumerate(line)])
+                  for down, line in enumerate(rows)])
 
 
 def crossings(rows):
